@@ -1,4 +1,4 @@
-"""What values are by their form: stands, moves, rows and memories of a house."""
+"""What values are by their form: stands, moves, rows, memories and items of a house."""
 
 NIGHT = ("night",)
 # What can stand in a given row in the place of a person: nobody has a higher number, since there are three people.
@@ -105,3 +105,32 @@ def is_memory(house, value):
         return False
     counts = all([is_from(count, 0, 4) for count in value[2]])
     return counts and are_people(house, value[0]) and are_due(house, value[1])
+
+
+def is_item(house, value):
+    """Whether the value is an item by its form."""
+    if not is_tuple_of(value, 3):
+        return value == NIGHT or is_given_row(house, value)
+    word, name, many = value
+    if word == "did":
+        return is_from(many, 0, pick_of_deed(house, name))
+    return word == "count" and name in [kind for kind, _ in house.kinds] and is_from(many, 0, 4)
+
+
+def is_part(house, pool, value):
+    """Whether the value is a part of a view by its form: items for each reader of the pool, and not none at all."""
+    if not is_tuple_of(value, len(pool)) or not all([isinstance(items, tuple) for items in value]):
+        return False
+    each = [item for items in value for item in items]
+    return each != [] and all([is_item(house, item) for item in each])
+
+
+def is_ascending(values):
+    """Whether what can be compared is sorted, and nothing stands there twice."""
+    return all([one < other for one, other in zip(values, values[1:])])
+
+
+def is_alike(value, known):
+    """Whether the value is the known one, of the same kinds throughout."""
+    # True is equal to 1, but it is not written like it.
+    return value == known and repr(value) == repr(known)

@@ -121,15 +121,25 @@ def is_unseen(shown):
     return all([items == () for items in shown])
 
 
+def shown_along(rules, pool, run):
+    """What each move of the run shows the pool, of a pool and a run that surely are such."""
+    _, book = led(rules.house, run)
+    memories = tuple([first_memory(rules.house) for _ in pool])
+    each = []
+    for move, rows in zip(run, book):
+        shown, memories = shown_to(rules, pool, memories, move, rows)
+        each.append(shown)
+    return each
+
+
+def view_of(rules, pool, run):
+    """As view, of a pool and a run that surely are such."""
+    return tuple([shown for shown in shown_along(rules, pool, run) if not is_unseen(shown)])
+
+
 def view(rules, pool, run):
     """What the moves of the run show the pool, without those that are unseen."""
     if not is_pool(rules, pool):
         raise BadPool(pool)
-    _, book = led(rules.house, run)
-    memories = tuple([first_memory(rules.house) for _ in pool])
-    parts = []
-    for move, rows in zip(run, book):
-        shown, memories = shown_to(rules, pool, memories, move, rows)
-        if not is_unseen(shown):
-            parts.append(shown)
-    return tuple(parts)
+    led(rules.house, run)
+    return view_of(rules, pool, run)

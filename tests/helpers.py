@@ -1,6 +1,7 @@
 """What the tests share: values of every kind, texts of houses, and a look at errors with the very value."""
 
 import copy
+import inspect
 import unittest
 
 
@@ -19,6 +20,28 @@ VALUES = (
     (["do"], {}, [], [0]), (("a",),), (["a"],), ({},), nested(40))
 
 SMALL = 'people a b\ncell c 2 0\nkind k\n  who w\ndeed x\n  row k who\nday 1'
+
+# More cases than are looked at come here by unseen moves, if done, often and the like are asked for.
+BIG = """people a
+cell c 4 0
+cell d 4 0
+cell e 4 0
+deed x
+  pick 4
+  set c it
+deed y
+  pick 4
+  set d it
+deed z
+  pick 4
+  set e it
+day 3"""
+
+# What holds now and then, and what never does; each has more than 2000 cases.
+BIG_ASK = ("or", ("or", ("done", "x", None, 0), ("done", "x", None, 1)),
+           ("or", ("done", "x", None, 2), ("done", "x", None, 3)))
+BIG_NEVER = ("and", ("and", ("done", "x", None, 1), ("not", ("done", "x", None, 1))),
+             ("or", ("often", "y", 3), ("often", "z", 3)))
 
 FULL = """people ann bob cy
 cell c 4 3
@@ -82,3 +105,13 @@ class Case(unittest.TestCase):
     def same(self, one, other):
         """Equal, and of the same kinds throughout: True is not 1, a list is not a tuple."""
         self.assertEqual(repr(one), repr(other))
+
+    def takes_names(self, function, *args):
+        """The call with the arguments by their names, in any sequence, gives the same, and so does a further one."""
+        names = list(inspect.signature(function).parameters)
+        before = copy.deepcopy(args)
+        told = function(*args)
+        self.same(function(**dict(zip(names[::-1], args[::-1]))), told)
+        self.same(function(*args), told)
+        self.assertEqual(args, before)
+        return names

@@ -1,6 +1,6 @@
 from givenout.forms import (
-    are_written_rows, is_deed, is_from, is_given_row, is_memory, is_move, is_stand, is_written_row, pick_of_deed,
-    size_of_cell)
+    are_written_rows, is_alike, is_ascending, is_deed, is_from, is_given_row, is_item, is_memory, is_move, is_part,
+    is_stand, is_written_row, pick_of_deed, size_of_cell)
 from givenout.houses import House
 from tests.helpers import FULL, VALUES, Case
 
@@ -26,6 +26,8 @@ class FormsTest(Case):
                 self.same(is_move(HOUSE, value), value == ("night",))
                 for look in (is_stand, is_deed, is_written_row, is_given_row, is_memory):
                     self.same(look(HOUSE, value), False)
+                self.same(is_item(HOUSE, value), value == ("night",))
+                self.same(is_part(HOUSE, ("r",), value), False)
                 self.same(are_written_rows(HOUSE, value, ("night",)), value == ())
 
     def test_what_is_of_the_form(self):
@@ -40,3 +42,38 @@ class FormsTest(Case):
         self.assertTrue(are_written_rows(HOUSE, (("l", ()), ("l", ())), ("do", "n", "bob", 0)))
         self.assertFalse(are_written_rows(HOUSE, (("l", ()),) * 3, ("do", "n", "bob", 0)))
         self.assertFalse(are_written_rows(HOUSE, (("l", ()),), ("night",)))
+
+    def test_items(self):
+        for value in (("k", ("cy", 3, 1)), ("k", ("-", -1, -1)), ("k", ("#2", 0, 0)), ("l", ()), ("did", "x", 2),
+                      ("did", "y", 0), ("count", "l", 0), ("count", "k", 3), ("night",)):
+            self.same(is_item(HOUSE, value), True)
+        for value in (("k", ("dot", 3, 1)), ("k", ("#3", 3, 1)), ("k", ("cy", 4, 1)), ("k", ("cy", -2, 1)), ("l", (0,)),
+                      ("l",), ("o", ()), ("did", "x", 3), ("did", "x", -1), ("did", "x", True), ("did", "w", 0),
+                      ("did", "x"), ("did", ["x"], 0), ("count", "k", 4), ("count", "k", True), ("count", "x", 0),
+                      ("count", ["k"], 0), (["did"], "x", 0), ["night"], "night", ("night", 0), ["l", ()], ("l", [])):
+            self.same(is_item(HOUSE, value), False)
+
+    def test_parts(self):
+        night, did = ("night",), ("did", "x", 0)
+        for value in (((night,),), ((did, night, did),)):
+            self.same(is_part(HOUSE, ("r",), value), True)
+        for value in (((night,), ()), ((), (did,)), ((did,), (night, night))):
+            self.same(is_part(HOUSE, ("q", "r"), value), True)
+            self.same(is_part(HOUSE, ("r",), value), False)
+        for value in (((), ()), ((night,),), ([night], ()), ((night,), None), ((night,), "night"), [(night,), ()],
+                      ((night,), (None,)), ((night,), (), ()), ((["night"],), ())):
+            self.same(is_part(HOUSE, ("q", "r"), value), False)
+
+    def test_ascending(self):
+        for values in ((), (1,), (1, 2, 5), ["a", "b"], (((), 1), ((0,), 0))):
+            self.same(is_ascending(values), True)
+        for values in ((1, 1), (2, 1), (1, 3, 2), ["b", "a"]):
+            self.same(is_ascending(values), False)
+
+    def test_alike(self):
+        for value in VALUES:
+            self.same([is_alike(value, other) for other in VALUES],
+                      [repr(value) == repr(other) for other in VALUES])
+        for value, other in ((True, 1), (0, False), ((1, (True,)), (1, (1,))), ([1], (1,)), (((),), ([],)), ("1", 1),
+                             (10 ** 5000, 1)):
+            self.same(is_alike(value, other), False)

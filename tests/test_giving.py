@@ -1,5 +1,5 @@
 from givenout.errors import BadMemory, BadMove, BadPool, BadReader, BadRows, BadRun
-from givenout.giving import first_memory, gives, view
+from givenout.giving import first_memory, gives, is_unseen, shown_along, view, view_of
 from givenout.houses import House
 from givenout.rules import Rules
 from givenout.stands import led
@@ -374,6 +374,15 @@ class ViewTest(Case):
         self.same(led(HOUSE, run)[1], (
             (k("ann", 1), m("bob", 2, "ann")), (L,), (), (k("cy", 2), m("bob", 2, "cy")), (), (),
             (k("ann", 0), k("bob", 3))))
+
+    def test_what_each_move_shows(self):
+        run = self.RUN[:-1]
+        self.same(shown_along(self.RULES, ("a",), run),
+                  [((("did", "x", 1),),), ((L,),), ((),), ((),), ((),), ((),), ((),)])
+        for pool in (("a",), ("a", "b"), ("b", "c")):
+            seen = [shown for shown in shown_along(self.RULES, pool, run) if not is_unseen(shown)]
+            self.same(view_of(self.RULES, pool, run), tuple(seen))
+            self.same(view(self.RULES, pool, run), tuple(seen))
 
     def test_pools_of_one(self):
         run = self.RUN[:-1]
