@@ -34,9 +34,13 @@ class Lines:
         if not holds:
             raise BadText(self.number)
 
+    def is_left(self):
+        """Whether there are lines that were not taken."""
+        return self.number < len(self.rows)
+
     def words_ahead(self, depth):
         """The words of the line that comes next if it stands that deep, otherwise none."""
-        if self.number == len(self.rows):
+        if not self.is_left():
             return []
         row = self.rows[self.number]
         if not row.startswith("  " * depth):
@@ -70,8 +74,16 @@ class Lines:
 
     def take_end(self):
         """Refuses a line that stands behind the last one."""
-        if self.number < len(self.rows):
+        if self.is_left():
             raise BadText(self.number + 1)
+
+    def take_block(self, depth):
+        """Takes all lines that come next and stand that deep; returns their text as if they stood by themselves."""
+        rows = []
+        while self.is_left() and self.rows[self.number].startswith("  " * depth):
+            rows.append(self.rows[self.number][2 * depth:])
+            self.number += 1
+        return "\n".join(rows)
 
     def new_name(self, word, names):
         """The word, if it is a name that is not among these."""

@@ -58,10 +58,14 @@ class Pairs:
         self.nearer = self.farther
         self.farther = []
 
+    def steps_from(self, pair):
+        """What leads on from a pair, as pair_steps tells it."""
+        return pair_steps(self.walks, pair)
+
     def look_ahead(self):
         """Finds out what comes of the pairs that were taken in last."""
         for ahead in self.fresh:
-            for moves, one, other in pair_steps(self.walks, ahead):
+            for moves, one, other in self.steps_from(ahead):
                 pair = in_order(one, other)
                 if pair not in self.sources:
                     told = (pair, (ahead, moves, one > other))

@@ -9,6 +9,12 @@ UNSEEN = 0
 HIDDEN = -1
 
 
+def in_rank(cases):
+    """The cases, ascending, and the place among them of each of them, by the numbers that they have now."""
+    order = sorted([(case, number) for number, case in enumerate(cases)])
+    return ([case for case, _ in order], {number: rank for rank, (_, number) in enumerate(order)})
+
+
 class Walks:
     """The cases that come for a pool and some asks, each with a number, that of the first case being 0.
 
@@ -114,5 +120,14 @@ class Walks:
 
     def ranked(self):
         """All cases that have numbers, ascending, and the place among them of the case of each number."""
-        order = sorted([(case, number) for number, case in enumerate(self.cases)])
-        return ([case for case, _ in order], {number: rank for rank, (_, number) in enumerate(order)})
+        return in_rank(self.cases)
+
+
+def walks_beside(walks, rules):
+    """Walks of the same pool and asks by other rules, in which cases and what is shown have the same numbers."""
+    beside = Walks(rules, walks.pool, walks.asks)
+    beside.cases = walks.cases
+    beside.numbers = walks.numbers
+    beside.parts = walks.parts
+    beside.given = walks.given
+    return beside

@@ -2,6 +2,7 @@
 
 import random
 
+from givenout.changes import are_let
 from givenout.houses import House
 from givenout.rules import Rules
 from givenout.stands import after, first_stand, moves
@@ -120,8 +121,43 @@ class Made:
     def secrets(self):
         return tuple((self.formula(), self.one("yes", "no", "whether")) for _ in range(self.one(1, 1, 2, 3)))
 
+    def changes(self, pool):
+        """All changes of readers of the pool that the rules let, each by itself."""
+        found = []
+        for reader in pool:
+            found += [("daily", reader), ("nights", reader)]
+            for kind, fields in self.house.kinds:
+                found += [("hide", reader, kind), ("nightly", reader, kind)]
+                found += [("counted", reader, kind, n) for n in (1, 2, 3)]
+                for field, size in fields:
+                    found += [("blank", reader, kind, field)]
+                    found += [("coarse", reader, kind, field, n) for n in (2, 3)] if size else [
+                        ("number", reader, kind, field)]
+        return sorted([change for change in found if are_let(self.rules, (change,))])
+
+    def ways(self, pool):
+        """None to four ways, among them often the rules as they are."""
+        found, changes = [()] if self.is_so(60) else [], self.changes(pool)
+        for _ in range(self.one(0, 1, 2, 3) if changes else 0):
+            way = tuple(sorted(self.chance.sample(changes, min(len(changes), self.one(1, 1, 2)))))
+            if are_let(self.rules, way) and way not in found:
+                found.append(way)
+        self.chance.shuffle(found)
+        return tuple(found)
+
     def pool(self):
         return self.one(*[(reader,) for reader in self.rules.readers], self.rules.readers)
+
+    def guards(self):
+        """One or two guards, with pools apart."""
+        pools = [self.pool()]
+        if len(self.rules.readers) == 2 and self.is_so(50):
+            pools = [(reader,) for reader in self.rules.readers]
+        return tuple((pool, self.secrets(), self.ways(pool)) for pool in pools)
+
+    def other_rules(self):
+        """Rules of the house, often the same."""
+        return self.rules if self.is_so(25) else Rules(self.house, "\n".join(self.rules_lines(True)))
 
     def deed(self):
         return self.one(*self.house.deeds)[0]

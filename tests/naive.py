@@ -1,8 +1,9 @@
 """The same answers as the program's, worked out plainly over Python's sets, for small houses."""
 
 import heapq
+import itertools
 
-from givenout.cases import cases_behind, first_case
+from givenout.cases import cases_behind, first_case, start_case, steps_from
 from givenout.giving import view
 from givenout.notes import answer_by
 from givenout.stands import after, first_stand, moves
@@ -26,13 +27,15 @@ class Naive:
 
     def __init__(self, rules, pool, asks):
         self.rules, self.pool, self.asks = rules, pool, asks
-        self.first = first_case(rules, pool, asks)
+        self.first = first_case(rules, pool, asks) if pool else start_case(rules.house, pool, asks)
         self.unseen = tuple(() for _ in pool)
         self.known = {}
 
     def steps(self, case):
         if case not in self.known:
-            self.known[case] = cases_behind(self.rules, self.pool, self.asks, case)
+            # Of a guarded pool perhaps nobody is named any more; cases_behind refuses that.
+            look = cases_behind if self.pool else steps_from
+            self.known[case] = look(self.rules, self.pool, self.asks, case)
         return self.known[case]
 
     def closed(self, cases):
@@ -164,3 +167,59 @@ def enough(rules, pool, ask, run):
         if len(ends(hidden + [at])) == 1:
             hidden.append(at)
     return ("enough", tuple(at for at in range(len(told)) if at not in hidden))
+
+
+def told(rules, ask, run):
+    """The least pools that know the answer behind the run, each with its lores, and the greatest that do not."""
+    pools = [pool for many in (1, 2, 3) for pool in itertools.combinations(rules.readers, many)]
+    lores = {pool: Naive(rules, pool, (ask,)).lores(view(rules, pool, run)) for pool in pools}
+    knows = {pool: len(Naive(rules, pool, (ask,)).answers(lores[pool][-1])) == 1 for pool in pools}
+    within = {pool: [other for other in pools if set(other) < set(pool)] for pool in pools}
+    least = [pool for pool in pools if knows[pool] and not any(knows[other] for other in within[pool])]
+    most = [pool for pool in pools if not knows[pool] and all(knows[other] for other in pools if pool in within[other])]
+    return (tuple((pool, tuple(tuple(sorted(lore)) for lore in lores[pool])) for pool in sorted(least)),
+            tuple(sorted(most)))
+
+
+class Beside:
+    """What comes for a pool and its mates: (stand, memories of the pool, memories of the mates)."""
+
+    def __init__(self, rules, pool, others, mates):
+        self.one, self.other = Naive(rules, pool, ()), Naive(others, mates, ())
+        self.first = (self.one.first[0], self.one.first[1], self.other.first[1])
+
+    def steps(self, case):
+        """(what is shown the pool, what the mates, what comes); None for what is unseen."""
+        stand, memories, others = case
+        found = []
+        for one, other in zip(self.one.steps((stand, memories, ())), self.other.steps((stand, others, ()))):
+            found.append((None if one[1] == self.one.unseen else one[1],
+                          None if other[1] == self.other.unseen else other[1], (one[2][0], one[2][1], other[2][1])))
+        return found
+
+    def next_pairs(self, pair):
+        """(how many moves, pair behind), None for a pair that the mates can tell apart."""
+        for one, other in (pair, pair[::-1]):
+            for shown, seen, behind in self.steps(one):
+                if shown is None:
+                    yield 1, in_order(behind, other) if seen is None else None
+                else:
+                    for same, beside, after in self.steps(other):
+                        if same == shown:
+                            yield 2, in_order(behind, after) if seen == beside else None
+
+
+def finer(rules, pool, others, mates):
+    """("parts", how many moves) or ("finer", table)."""
+    beside = Beside(rules, pool, others, mates)
+    seen = set()
+    ahead = [(0, 0, (beside.first, beside.first))]
+    while ahead:
+        length, is_parted, pair = heapq.heappop(ahead)
+        if is_parted:
+            return ("parts", length)
+        if pair not in seen:
+            seen.add(pair)
+            for more, behind in beside.next_pairs(pair):
+                heapq.heappush(ahead, (length + more, int(behind is None), behind or ()))
+    return ("finer", tuple(sorted(seen)))

@@ -11,7 +11,9 @@ FILES = sorted(FOLDER.rglob("*.py"))
 
 # Of the builtins of L8 those that the package uses so far, or may use anywhere.
 BUILTINS = set("""len range enumerate zip min max sum abs sorted reversed int str bool list tuple dict set isinstance
-    ord repr any all divmod super ValueError KeyError""".split())
+    ord repr any all divmod super iter ValueError KeyError""".split())
+# What may be imported from elsewhere, by L2, of what the package uses.
+LIBRARY = {"heapq": ("heappop", "heappush")}
 METHODS = set("""append clear copy count endswith extend find get index insert isalnum isalpha isdigit islower isspace
     isupper items join keys ljust lower lstrip partition pop remove replace reverse rfind rjust rpartition rsplit rstrip
     setdefault split splitlines startswith strip update upper values zfill bit_length""".split())
@@ -94,10 +96,11 @@ class ModuleTest(unittest.TestCase):
         for place, node in nodes(ast.ImportFrom):
             self.assertEqual(node.level, 0, place)
             for alias in node.names:
-                self.assertIn(alias.name, defined[node.module], place)
+                self.assertIn(alias.name, LIBRARY.get(node.module) or defined[node.module], place)
 
     def test_imports_go_in_no_ring(self):
-        ahead = {path.stem: [node.module.split(".")[1] for node in tree.body if isinstance(node, ast.ImportFrom)]
+        ahead = {path.stem: [node.module.split(".")[1] for node in tree.body
+                             if isinstance(node, ast.ImportFrom) and node.module not in LIBRARY]
                  for path, _, tree in trees()}
         while ahead:
             free = [name for name, needs in ahead.items() if not [need for need in needs if need in ahead]]
@@ -165,6 +168,30 @@ class ExpressionsTest(unittest.TestCase):
         for place, node in nodes((ast.Assign, ast.Return)):
             if isinstance(node.value, ast.Call):
                 self.assertNotIn(getattr(node.value.func, "id", ""), kept, place)
+
+    def test_what_comes_of_the_library_is_only_called(self):
+        words = [word for row in LIBRARY.values() for word in row]
+        for path, _, tree in trees():
+            called = [node.func for node in ast.walk(tree) if isinstance(node, ast.Call)]
+            for node in ast.walk(tree):
+                if isinstance(node, ast.Name) and node.id in words:
+                    self.assertIn(node, called, f"{path.name}:{node.lineno}")
+
+    def test_what_ends_a_with_assigns_only(self):
+        for place, node in nodes(ast.FunctionDef):
+            if node.name == "__exit__":
+                for part in ast.walk(node):
+                    self.assertNotIsInstance(part, (ast.Call, ast.Subscript, ast.Raise, ast.For, ast.While), place)
+            if node.name == "__iter__":
+                self.assertEqual(len(node.body), 1, place)
+
+    def test_no_name_is_a_method_and_an_attribute_of_one_class(self):
+        for place, node in nodes(ast.ClassDef):
+            methods = [part.name for part in node.body if isinstance(part, ast.FunctionDef)]
+            stored = [part.attr for part in ast.walk(node) if isinstance(part, ast.Attribute)
+                      and isinstance(part.ctx, ast.Store) and getattr(part.value, "id", "") == "self"]
+            self.assertEqual(set(methods) & set(stored), set(), place)
+            self.assertEqual(len(methods), len(set(methods)), place)
 
     def test_attributes_are_assigned_somewhere(self):
         stored = set([node.attr for _, node in nodes(ast.Attribute) if isinstance(node.ctx, ast.Store)])
