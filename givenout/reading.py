@@ -1,7 +1,7 @@
 """Reading: runs, views, asks and changes from their texts."""
 
 from givenout.asks import MOST_DEEP, is_ask
-from givenout.changes import LENGTHS, is_change
+from givenout.changes import is_change
 from givenout.errors import BadPool, BadText
 from givenout.forms import NIGHT, is_item
 from givenout.giving import is_pool
@@ -106,18 +106,6 @@ def read_view(rules, pool, text):
     return tuple(parts)
 
 
-def parted_ask(words, depth):
-    """As ask_ahead, of words that begin with one that has asks behind it."""
-    parts = [words[0]]
-    rest = words[1:]
-    for _ in range(1 if words[0] == "not" else 2):
-        part, rest = ask_ahead(rest, depth - 1)
-        if part is None:
-            return (None, [])
-        parts.append(part)
-    return (tuple(parts), rest)
-
-
 def word_told(form, word):
     """What the word tells where a name or a number stands in an ask."""
     if word == "-":
@@ -126,21 +114,23 @@ def word_told(form, word):
 
 
 def ask_ahead(words, depth):
-    """(what the first words tell, at most so deep, that may be an ask; the words behind it); None if they tell none."""
+    """(what the first words tell if they are an ask, which is at most so deep; the words behind it)."""
     if words == [] or depth == 0:
         return (None, [])
     if words[0] in PARTED:
-        return parted_ask(words, depth)
+        ask, rest = words[:1], words[1:]
+        for _ in range(1 if words[0] == "not" else 2):
+            part, rest = ask_ahead(rest, depth - 1)
+            ask.append(part)
+        return (tuple(ask), rest)
     forms = ASKS.get(words[0], "")
     here = len(forms) + 1
-    if forms == "" or len(words) < here:
-        return (None, [])
-    told = [word_told(form, word) for form, word in zip(forms, words[1:here])]
-    return (tuple([words[0]] + told), words[here:])
+    return (tuple(words[:1] + [word_told(form, word) for form, word in zip(forms, words[1:here])]), words[here:])
 
 
 def ask_of(house, words):
     """The ask of the house that these words tell, None if they tell none."""
+    # Words that are no ask tell something that is none, either.
     ask, rest = ask_ahead(words, MOST_DEEP)
     return ask if rest == [] and is_ask(house, ask) else None
 
@@ -155,10 +145,8 @@ def read_ask(house, text):
 
 def change_of(words):
     """The change by its form that these words tell, None if they tell none."""
-    last = words[-1:]
-    if words[0] in ("coarse", "counted") and len(words) == LENGTHS[words[0]]:
-        last = [number_of(words[-1])]
-    change = tuple(words[:-1] + last)
+    last = number_of(words[-1]) if words[0] in ("coarse", "counted") else words[-1]
+    change = tuple(words[:-1] + [last])
     return change if is_change(change) else None
 
 

@@ -1,12 +1,12 @@
 """Telling: which readers can have told a thing that got out."""
 
 from givenout.asks import answer, is_ask
-from givenout.checks import is_run
 from givenout.errors import BadAsk
 from givenout.forms import is_ascending, is_tuple_of
 from givenout.giving import is_pool, view_of
 from givenout.knowing import lores_of
 from givenout.lores import answers_in
+from givenout.needing import shows_open
 from givenout.proofs import hold_all, numbers_of
 from givenout.stands import led
 from givenout.views import runs_to_answers
@@ -71,14 +71,6 @@ def knows(rules, pool, ask, run, lores):
     return len(answers_in(walks, 0, numbers_of(walks, lores)[-1])) == 1
 
 
-def is_left_open(rules, pool, ask, run, other):
-    """Whether the other run shows that the pool does not know the answer behind the run."""
-    house = rules.house
-    if not is_run(house, other) or view_of(rules, pool, run) != view_of(rules, pool, other):
-        return False
-    return answer(house, run, ask) != answer(house, other, ask)
-
-
 def are_rows(rules, value):
     """Whether the value is a tuple of (pool, evidence), ascending by pools."""
     if not isinstance(value, tuple) or not all([is_tuple_of(row, 2) and is_pool(rules, row[0]) for row in value]):
@@ -107,4 +99,4 @@ def shows_told(rules, ask, run, value):
     if not part_all(rules, [pool for pool, _ in knowing], [pool for pool, _ in unsure]):
         return False
     return (all([knows(rules, pool, ask, run, lores) for pool, lores in knowing])
-            and all([is_left_open(rules, pool, ask, run, other) for pool, other in unsure]))
+            and all([shows_open(rules, pool, ask, run, other) for pool, other in unsure]))

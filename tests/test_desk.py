@@ -19,20 +19,15 @@ ALL = Rules(FULL_HOUSE, "reader a\n  is ann\n  nights\n  kind k\n    number w\n 
 
 NO_LINES = (
     "", " ", "do", "do x a", "do x a 00", "do x a -", "do x a 0 ", " do x a 0", "do  x a 0", "do x a 0 0",
-    "do x a 1234567890",
-    "Do x a 0", "night ", " night", "nights", "night 0", "night\n", "\nnight", "do x a 0\nnight", "may", "may ",
-    "may x",
-    "may undo", "may do x a", "may night 0", "may may night", "may  night", "undo 1", "undo ", "Undo", "redo 0",
-    "undo redo",
-    "moves 0", "moves ", "move", "way", "way ", "way x", "way 00", "way -1", "way 0 0", "way 0 ", "way 01",
-    "way 1234567890",
-    "ways 0", "known", "known 0", "known 0 ", "known x done x a -", "known done x a -", "known 00 done x a -",
-    "known -1 done x a -", "known 0 done x a", "known 0 done z a -", "known 0 done x a - -", "known 0 now c 2",
-    "known 0 not not not not now c 1", "known 0  done x a -", "known 0 yes", "stand 0", "stand ", "stands", "cases",
-    "cases x",
-    "cases 0 0", "cases 00", "case 0", "keep", "trial", "change", "rules", "run", "guards", "journal",
-    "known 0 done x a 1",
-    "way\t0", "undo\t", "0", "-", "?", "known 0 who x a", "do X a 0", "do x abcdefghi 0")
+    "do x a 1234567890", "Do x a 0", "night ", " night", "nights", "night 0", "night\n", "\nnight", "do x a 0\nnight",
+    "may", "may ", "may x", "may undo", "may do x a", "may night 0", "may may night", "may  night", "undo 1", "undo ",
+    "Undo", "redo 0", "undo redo", "moves 0", "moves ", "move", "way", "way ", "way x", "way 00", "way -1", "way 0 0",
+    "way 0 ", "way 01", "way 1234567890", "ways 0", "known", "known 0", "known 0 ", "known x done x a -",
+    "known done x a -", "known 00 done x a -", "known -1 done x a -", "known 0 done x a", "known 0 done z a -",
+    "known 0 done x a - -", "known 0 now c 2", "known 0 not not not not now c 1", "known 0  done x a -", "known 0 yes",
+    "knows 0 done x a -", "cases 0 done x a -", "done x a -", "0 done x a -", "stand 0", "stand ", "stands", "cases",
+    "cases x", "cases 0 0", "cases 00", "case 0", "keep", "trial", "change", "rules", "run", "guards", "journal",
+    "known 0 done x a 1", "way\t0", "undo\t", "0", "-", "?", "known 0 who x a", "do X a 0", "do x abcdefghi 0")
 
 
 def desk_of(rules, *guards):

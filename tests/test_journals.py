@@ -19,8 +19,7 @@ GUARDED = HEAD + [
     "rules", "  reader q", "    kind k", "  reader r", "    kind k", "      number w", "  reader s", "    nights",
     "guard q r", "  secret yes done x a -", "  secret yes and last x b now c 0", "  way", "    blank q k w",
     "    blank r k w", "  way", "  way", "    hide q k", "guard s", "  secret no done x b 0", "run", "  do x a 0",
-    "  night",
-    "  rules", "    reader r", "      kind k", "        blank w", "    reader t", "  do x b 0", "  night"]
+    "  night", "  rules", "    reader r", "      kind k", "        blank w", "    reader t", "  do x b 0", "  night"]
 
 
 def text_of(lines):
@@ -182,9 +181,9 @@ class ReadJournalTest(Case):
             self.bad(PLAIN + lines + ["run", "  do z a 9", "  no"], here + len(lines) + 3)
 
     def test_moves_by_their_form(self):
-        for line in ("  do x a", "  do x a 00", "  do x a -", "  do x A 0", "  nights", "  night 0", "  undo",
-                     "  do x a 0 ",
-                     "  do x a 1234567890", " night", "  Night", "  may night", "  do  x a 0"):
+        for line in ("xxnight", "--do x a 0", "  do x a", "  do x a 00", "  do x a -", "  do x A 0", "  nights",
+                     "  night 0", "  undo", "  do x a 0 ", "  do x a 1234567890", " night", "  Night", "  may night",
+                     "  do  x a 0"):
             self.bad(PLAIN + ["run", line], len(PLAIN) + 2)
             self.bad(PLAIN + ["run", "  do z a 0", line, "  night"], len(PLAIN) + 3)
 

@@ -48,3 +48,25 @@ class LinesTest(unittest.TestCase):
                 with self.assertRaises(BadText) as caught:
                     refuse(lines)
                 self.assertEqual(caught.exception.number, 2)
+
+    def test_lines_that_do_not_stand_so_deep(self):
+        lines = Lines("xxone\n one\n  one")
+        for depth, words in ((0, ["xxone"]), (1, [])):
+            self.assertEqual(lines.words_ahead(depth), words)
+        lines.take(0, ("xxone",))
+        self.assertEqual((lines.words_ahead(1), lines.is_next(1, ("one",))), ([], False))
+        with self.assertRaises(BadText) as caught:
+            lines.take(1, ("one",))
+        self.assertEqual(caught.exception.number, 2)
+        self.assertTrue(lines.is_left())
+        lines.take(1, ("one",))
+        self.assertFalse(lines.is_left())
+
+    def test_blocks_are_taken_as_if_they_stood_by_themselves(self):
+        lines = Lines("a\n  b\n    c\n   d\n  \ne\n\n  f")
+        self.assertEqual(lines.take_block(1), "")
+        lines.take(0, ("a",))
+        self.assertEqual((lines.take_block(2), lines.number), ("", 1))
+        self.assertEqual((lines.take_block(1), lines.number), ("b\n  c\n d\n", 5))
+        self.assertEqual((lines.take_block(1), lines.take_block(0), lines.number), ("", "e\n\n  f", 8))
+        self.assertEqual((lines.take_block(0), lines.is_left()), ("", False))

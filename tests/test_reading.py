@@ -16,11 +16,10 @@ NO_STRINGS = tuple([value for value in VALUES if not isinstance(value, str)])
 
 # Lines of moves that have no such form.
 NO_MOVES = ("", " ", "do", "do x", "do x cy", "do x cy 2 ", "do x cy 2 0", " do x cy 2", "do  x cy 2", "do x cy  2",
-            "Do x cy 2",
-            "do x cy 02", "do x cy -1", "do x cy +1", "do x cy 1234567890", "do x cy it", "do x 2 cy", "do x cy -",
-            "nights",
-            "night ", " night", "night night", "night 0", "do X cy 2", "do x Cy 2", "do xxxxxxxxx cy 2", "do x cy 2\t",
-            "do\tx cy 2", "x cy 2", "  do x cy 2", "do x cy 2;night", "do x cy 2\r", "do x - 2", "do - cy 2", "-")
+            "Do x cy 2", "do x cy 02", "do x cy -1", "do x cy +1", "do x cy 1234567890", "do x cy it", "do x 2 cy",
+            "do x cy -", "nights", "night ", " night", "night night", "night 0", "do X cy 2", "do x Cy 2",
+            "do xxxxxxxxx cy 2", "do x cy 2\t", "do\tx cy 2", "x cy 2", "  do x cy 2", "do x cy 2;night", "do x cy 2\r",
+            "do x - 2", "do - cy 2", "-")
 
 
 class ReadRunTest(Case):
@@ -98,7 +97,9 @@ class ReadViewTest(Case):
                 ("part\n  reader q\n    night\n  part", 4), ("part\n  reader q\n     night", 3),
                 ("part\n  reader q\n    night\nreader r", 4), ("part\n  reader q\n    night\n  reader s", 5),
                 ("part\n  reader q\n    night\npart\n", 5), ("part\n  Reader q\n    night", 2),
-                ("part\n   reader q\n    night", 2)):
+                ("part\n   reader q\n    night", 2),
+                ("part\nxxreader q\n    night", 2), ("part\n  reader q\nxxxxnight", 3),
+                ("part\n  reader q\n  xxnight", 3)):
             if number > 0:
                 self.bad(text, number)
         self.bad("part\n  reader r\n    night", 2, ("q", "s"))
@@ -106,15 +107,12 @@ class ReadViewTest(Case):
 
     def test_items_that_have_no_form(self):
         for line in ("", "night ", " night", "nights", "did x", "did x 3", "did x 01", "did x -1", "did w 0",
-                     "did x 0 0",
-                     "did x -", "row", "row n", "row k", "row k ann 3", "row k ann 3 1 0", "row k dot 3 1",
-                     "row k ann 4 1",
-                     "row k ann 3 2", "row k ann -1 1", "row k #3 3 1", "row k # 3 1", "row k 0 3 1", "row k ann 03 1",
-                     "row k ann - -1", "row k ann  1", "row k ann 3 1 ", "row l ", "row l -", "row m #0", "row m ann",
-                     "row m 3", "row m --", "count k 4", "count k -1", "count k 00", "count k", "count n 0",
-                     "count k 1 1",
-                     "count - 0", "Row m 0", "item m 0", "m 0", "rows m 0", "did x 0\t", "row\tm 0",
-                     "row m 1234567890"):
+                     "did x 0 0", "did x -", "row", "row n", "row k", "row k ann 3", "row k ann 3 1 0", "row k dot 3 1",
+                     "row k ann 4 1", "row k ann 3 2", "row k ann -1 1", "row k #3 3 1", "row k # 3 1", "row k 0 3 1",
+                     "row k ann 03 1", "row k ann - -1", "row k ann  1", "row k ann 3 1 ", "row l ", "row l -",
+                     "row m #0", "row m ann", "row m 3", "row m --", "count k 4", "count k -1", "count k 00", "count k",
+                     "count n 0", "count k 1 1", "count - 0", "Row m 0", "item m 0", "m 0", "rows m 0", "did x 0\t",
+                     "row\tm 0", "row m 1234567890"):
             self.bad("part\n  reader q\n    " + line, 3)
             self.bad("part\n  reader q\n    night\n    " + line + "\n    night", 4)
             self.bad("part\n  reader q\n    row m 0\n  reader s\n    night\n    did x 0\n    " + line, 7)
@@ -194,14 +192,11 @@ class ReadAskTest(Case):
 
     def test_what_is_none(self):
         for text in ("", " ", "\n", "not", "and", "or", "not worth c", "not who x", "and now c 0",
-                     "and now c 0 worth c",
-                     "or now c 0 times x 1", "xor now c 0 now c 1", "now", "now c", "now f 0", "now c 4", "now c -",
-                     "worth",
-                     "worth x", "worth -", "who c", "who -", "times x 0", "times x 4", "times x -", "often x 1",
-                     "often x 4",
-                     "often - 2", "last x -", "last - cy", "last x dot", "done x", "done x - -1", "done x - 3",
-                     "done - - -",
-                     "done x cy", "done x cy 0 0", "today x 0 cy", "- - - -", "done x ann None", "now c c", "now c\t0"):
+                     "and now c 0 worth c", "or now c 0 times x 1", "xor now c 0 now c 1", "now", "now c", "now f 0",
+                     "now c 4", "now c -", "worth", "worth x", "worth -", "who c", "who -", "times x 0", "times x 4",
+                     "times x -", "often x 1", "often x 4", "often - 2", "last x -", "last - cy", "last x dot",
+                     "done x", "done x - -1", "done x - 3", "done - - -", "done x cy", "done x cy 0 0", "today x 0 cy",
+                     "- - - -", "done x ann None", "now c c", "now c\t0"):
             self.bad(text)
         for value in NO_STRINGS:
             self.bad(value, 0)
@@ -235,8 +230,8 @@ class ReadAskTest(Case):
 class ReadChangeTest(Case):
 
     TEXTS = ("hide r k", "blank r k w", "number r k w", "coarse r k v 2", "coarse r k v 3", "nightly r k",
-             "counted r k 1",
-             "counted r k 3", "daily r", "nights r", "nights nights", "hide hide hide", "daily abcdefgh")
+             "counted r k 1", "counted r k 3", "daily r", "nights r", "nights nights", "hide hide hide",
+             "daily abcdefgh")
 
     def bad(self, text, number=1):
         self.refuses(BadText, number, read_change, text)
@@ -264,10 +259,9 @@ class ReadChangeTest(Case):
 
     def test_what_is_none(self):
         for text in ("", " ", "\n", "hide", "coarse", "counted", "coarse r k v", "counted r k", "coarse r k v 1",
-                     "coarse r k 2",
-                     "counted r k 0", "counted r k 4", "counted r k v 1", "show r k", "is r ann", "only r k",
-                     "reader r",
-                     "hide r k v", "daily r k", "hide R k", "hide r abcdefghi", "hide r 0", "blank r k 0"):
+                     "coarse r k 2", "counted r k 0", "counted r k 4", "counted r k v 1", "show r k", "is r ann",
+                     "only r k", "reader r", "hide r k v", "daily r k", "hide R k", "hide r abcdefghi", "hide r 0",
+                     "blank r k 0"):
             self.bad(text)
         for value in NO_STRINGS:
             self.bad(value, 0)

@@ -227,6 +227,14 @@ class WaysTest(Case):
         self.same(silence_of(TURNED, R), (("hide", "r", "k"), ("hide", "r", "l")))
         self.same(rules_by(TURNED, R, ())[0].text, "reader r\n  is a\n  nights")
 
+    def test_silence_where_kinds_stand_in_another_sequence(self):
+        house = House(SMALL.replace("kind k\n  who w\n", "kind m\n  who w\nkind k\n  who w\nkind b\n"))
+        rules = Rules(house, "reader q\n  kind m\n  kind k\n  kind b\nreader r\n  kind k\n  kind b")
+        self.same(silence_of(rules, ("q", "r")), (("hide", "q", "b"), ("hide", "q", "k"), ("hide", "q", "m"),
+                                                  ("hide", "r", "b"), ("hide", "r", "k")))
+        self.same(rules_by(rules, ("q", "r"), ())[0].text, "reader q\nreader r")
+        self.same(held(rules, ("q", "r"), YES_A, ())[0], "held")
+
     def test_rules_by_ways(self):
         texts = [rules.text for rules in rules_by(TURNED, R, (NO_K, (), NO_L))]
         self.same(texts, [with_changes(TURNED, NO_K).text, TURNED.text, with_changes(TURNED, NO_L).text,
@@ -410,6 +418,8 @@ class ShowsTreeTest(Case):
             self.shown(False, ((one[0], one[1], (bad, one[2][1])), other))
         for tree in (told[1][::-1], list(told[1]), told[1][:1], told[1] * 2, ()):
             self.shown(False, tree)
+        for value in (("held", told[1]), ("out", told[1]), (None, told[1]), ("lost",), told + (0,), list(told)):
+            self.same(shows_held(self.RULES, R, self.SECRETS, ((),), value), False)
 
     def test_of_other_ways_and_secrets(self):
         tree = held(self.RULES, R, self.SECRETS, ((),))[1]
