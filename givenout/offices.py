@@ -113,7 +113,7 @@ class Office:
         trial = self.innermost
         if trial is None:
             raise NoTrial()
-        trial.is_kept = True
+        trial.kept = True
 
     def tried(self, look, *, keep=False):
         """What look returns for the office, in a trial that is kept if keep is True."""

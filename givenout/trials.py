@@ -4,14 +4,14 @@
 class Trial:
     """A trial of an office.
 
-    outer: the trial in which it stands, or None; is_kept: whether what is done in it stays. All else is what the office
-    has ahead of it.
+    outer: the trial in which it stands, or None; kept: True if what is done in it stays, otherwise None. All else is
+    what the office has ahead of it.
     """
 
     def __init__(self, office):
         self.office = office
         self.outer = None
-        self.is_kept = False
+        self.kept = None
         self.take_down()
 
     def take_down(self):
@@ -33,7 +33,7 @@ class Trial:
     def __enter__(self):
         office = self.office
         self.outer = office.innermost
-        self.is_kept = False
+        self.kept = None
         self.take_down()
         office.innermost = self
         return office
@@ -41,7 +41,7 @@ class Trial:
     def __exit__(self, kind, value, trace):
         office = self.office
         office.innermost = self.outer
-        if kind is not None or not self.is_kept:
+        if kind is not None or self.kept is None:
             office.state = self.state
             office.rules = self.rules
             office.guards = self.guards

@@ -180,10 +180,36 @@ class ExpressionsTest(unittest.TestCase):
     def test_what_ends_a_with_assigns_only(self):
         for place, node in nodes(ast.FunctionDef):
             if node.name == "__exit__":
-                for part in ast.walk(node):
-                    self.assertNotIsInstance(part, (ast.Call, ast.Subscript, ast.Raise, ast.For, ast.While), place)
+                for part in node.body:
+                    self.only_assigns(part)
             if node.name == "__iter__":
                 self.assertEqual(len(node.body), 1, place)
+
+    def only_assigns(self, node):
+        place = ast.unparse(node)
+        self.assertIsInstance(node, (ast.Assign, ast.If, ast.Pass), place)
+        if isinstance(node, ast.If):
+            self.asks_for_none_only(node.test)
+            for part in node.body + node.orelse:
+                self.only_assigns(part)
+        if isinstance(node, ast.Assign):
+            for part in [node.value] + node.targets:
+                self.assertRegex(ast.unparse(part), r"^[a-z_]+(\.[a-z_]+)?$", place)
+                self.assertNotIn(ast.unparse(part), ("kind", "value", "trace"), place)
+
+    # With classes that have an equality, nothing is asked alone there, and nothing is compared with a literal.
+    def asks_for_none_only(self, node):
+        if isinstance(node, ast.BoolOp):
+            for part in node.values:
+                self.asks_for_none_only(part)
+        elif isinstance(node, ast.UnaryOp):
+            self.asks_for_none_only(node.operand)
+        else:
+            self.assertRegex(ast.unparse(node), r"^[a-z_]+(\.[a-z_]+)? is (not )?None$")
+
+    def test_no_try_has_a_finally(self):
+        for place, node in nodes(ast.Try):
+            self.assertEqual(node.finalbody, [], place)
 
     def test_no_name_is_a_method_and_an_attribute_of_one_class(self):
         for place, node in nodes(ast.ClassDef):

@@ -601,14 +601,14 @@ class TrialTest(OfficeCase):
         self.same(office.run, (XA,))
 
     def test_left_by_an_error(self):
-        for is_kept in (True, False):
+        for kept in (True, False):
             office = guarded()
             office.do(XA)
             before = all_of(office)
             with self.assertRaises(NoMove):
                 with office.trial():
                     office.do(NIGHT)
-                    if is_kept:
+                    if kept:
                         office.keep()
                     office.do(("do", "x", "c", 0))
             self.same(all_of(office), before)
@@ -620,6 +620,25 @@ class TrialTest(OfficeCase):
                     office.keep()
                     raise ZeroDivisionError("x")
             self.same(all_of(office), before)
+            self.raises(NoTrial, [], office.keep)
+
+    def test_an_inner_trial_that_is_left_by_an_error(self):
+        for outer, inner, run in ((True, True, (XA, NIGHT)), (True, False, (XA, NIGHT)), (False, True, (XA,)),
+                                  (False, False, (XA,))):
+            office = guarded()
+            office.do(XA)
+            with office.trial():
+                office.do(NIGHT)
+                if outer:
+                    office.keep()
+                with self.assertRaises(ZeroDivisionError):
+                    with office.trial():
+                        office.do(XB)
+                        if inner:
+                            office.keep()
+                        raise ZeroDivisionError("x")
+                self.same(office.run, (XA, NIGHT))
+            self.same(office.run, run)
             self.raises(NoTrial, [], office.keep)
 
     def test_an_error_that_is_caught_within(self):

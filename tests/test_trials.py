@@ -41,7 +41,7 @@ class TrialTest(Case):
         trial = Trial(self.office)
         with trial:
             self.office.put(2)
-            trial.is_kept = True
+            trial.kept = True
         self.all_are(2)
         # Entered again, it is not kept yet.
         with trial:
@@ -49,26 +49,26 @@ class TrialTest(Case):
         self.all_are(2)
 
     def test_errors_go_on(self):
-        for is_kept in (True, False):
+        for kept in (True, None):
             trial = Trial(self.office)
             with self.assertRaises(KeyError):
                 with trial:
                     self.office.put(2)
-                    trial.is_kept = is_kept
+                    trial.kept = kept
                     raise KeyError("x")
             self.all_are(0)
             self.assertIsNone(self.office.innermost)
 
     def test_within_one_another(self):
-        for outer, inner, worth in ((True, True, 2), (True, False, 1), (False, True, 0), (False, False, 0)):
+        for outer, inner, worth in ((True, True, 2), (True, None, 1), (None, True, 0), (None, None, 0)):
             self.office.put(0)
             around, within = Trial(self.office), Trial(self.office)
             with around:
                 self.office.put(1)
                 with within:
                     self.office.put(2)
-                    within.is_kept = inner
+                    within.kept = inner
                 self.assertIs(self.office.innermost, around)
                 self.all_are(2 if inner else 1)
-                around.is_kept = outer
+                around.kept = outer
             self.all_are(worth)
